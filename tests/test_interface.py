@@ -1,0 +1,40 @@
+"""The examples of the document, and the names and parameters of its interface."""
+
+import doctest
+import importlib
+import inspect
+import unittest
+
+FUNCTIONS = {
+    "texts": {"is_text": ["value"], "character_count": ["text"], "spaces_of": ["text"],
+              "text_of": ["characters", "spaces"], "wrap_text": ["text", "width"], "line_starts": ["text", "width"],
+              "least_width": ["text", "lines"], "words_of": ["string"], "wrap_string": ["string", "width"]},
+    "clashes": {"is_screen": ["value"], "are_screens": ["value"], "screen_of": ["text", "width"],
+                "find_clash": ["screens"], "is_clash": ["screens", "value"]},
+    "positions": {"pattern_of": ["screens"], "reason_for": ["screens", "position"],
+                  "is_reason": ["screens", "position", "value"]},
+}
+
+
+class InterfaceTest(unittest.TestCase):
+
+    def test_examples(self):
+        results = doctest.testfile("examples.txt")
+        self.assertEqual(results.failed, 0)
+        self.assertEqual(results.attempted, 28)
+
+    def test_functions_stand_in_their_files_with_their_parameters(self):
+        for module, functions in FUNCTIONS.items():
+            names = vars(importlib.import_module("wrapclues." + module))
+            for name, parameters in functions.items():
+                self.assertTrue(inspect.isfunction(names[name]), name)
+                self.assertEqual(names[name].__module__, "wrapclues." + module)
+                found = inspect.signature(names[name]).parameters.values()
+                self.assertEqual([parameter.name for parameter in found], parameters)
+                for parameter in found:
+                    self.assertIs(parameter.kind, parameter.POSITIONAL_OR_KEYWORD)
+                    self.assertIs(parameter.default, parameter.empty)
+
+
+if __name__ == "__main__":
+    unittest.main()

@@ -1,0 +1,124 @@
+"""The rules of the language that can be read off the files of the package, by number."""
+
+import ast
+import builtins
+import pathlib
+import re
+import unittest
+
+PACKAGE = pathlib.Path(__file__).resolve().parent.parent / "wrapclues"
+FILES = {path.stem: path.read_text(encoding="utf-8") for path in sorted(PACKAGE.rglob("*.py"))}
+TREES = {name: ast.parse(source) for name, source in FILES.items()}
+
+BUILTINS = set("""len range enumerate zip min max sum abs sorted reversed int str bool list tuple dict set isinstance
+    ord repr any all divmod Exception ValueError TypeError KeyError IndexError LookupError super""".split())
+METHODS = set("""append clear copy count endswith extend find get index insert isalnum isalpha isdigit islower isspace
+    isupper items join keys ljust lower lstrip partition pop remove replace reverse rfind rjust rpartition rsplit
+    rstrip setdefault split splitlines startswith strip update upper values zfill bit_length add discard
+    __init__""".split())
+STATEMENTS = (ast.Assign, ast.AugAssign, ast.If, ast.While, ast.For, ast.Return, ast.Break, ast.Continue, ast.Pass,
+              ast.Raise, ast.Expr, ast.FunctionDef, ast.ClassDef, ast.ImportFrom, ast.Try, ast.Delete)
+BARRED = re.compile(r"_wall|_WallAttr|\b(type|typing|enum|namedtuple|dataclass|overload|contextmanager|eval|exec)\b")
+
+
+def nodes(kind):
+    return [(name, node) for name, tree in TREES.items() for node in ast.walk(tree) if isinstance(node, kind)]
+
+
+class LanguageTest(unittest.TestCase):
+
+    def test_files(self):
+        """L1, L14: one flat folder of .py files with plain characters."""
+        for path in PACKAGE.rglob("*"):
+            if "__pycache__" not in path.parts:
+                self.assertEqual((path.suffix, path.parent), (".py", PACKAGE))
+        for name, source in FILES.items():
+            self.assertTrue(all(sign == "\n" or " " <= sign <= "~" for sign in source), name)
+
+    def test_size(self):
+        """L10."""
+        for name, source in FILES.items():
+            lines = source.split("\n")
+            self.assertLessEqual(len(lines), 399, name)
+            self.assertLessEqual(max(len(line) for line in lines), 120, name)
+        for name, node in nodes(ast.FunctionDef):
+            self.assertLessEqual(node.end_lineno - node.lineno + 1, 40, (name, node.name))
+
+    def test_imports(self):
+        """L2, L15, L16: full names, from the file that defines them, no name twice, no circle."""
+        self.assertEqual(nodes(ast.Import), [])
+        imported = {name: set() for name in FILES}
+        for name, node in nodes(ast.ImportFrom):
+            self.assertEqual(node.level, 0)
+            package, _, module = node.module.partition(".")
+            self.assertEqual(package, "wrapclues")
+            imported[name].add(module)
+            for alias in node.names:
+                self.assertIsNone(alias.asname)
+                self.assertIn(alias.name, self.defined_in(module), name)
+        self.assertEqual(imported["__init__"], set())
+        ready = []
+        while len(ready) < len(imported):
+            fresh = [name for name in imported if name not in ready and imported[name] <= set(ready)]
+            self.assertNotEqual(fresh, [], "the files import from each other")
+            ready += fresh
+
+    def defined_in(self, module):
+        names = []
+        for node in TREES[module].body:
+            if isinstance(node, (ast.FunctionDef, ast.ClassDef)):
+                names.append(node.name)
+            elif isinstance(node, ast.Assign):
+                names += [target.id for target in node.targets]
+        self.assertEqual(len(names), len(set(names)), module)
+        return names
+
+    def test_module_level(self):
+        """L3."""
+        for name, tree in TREES.items():
+            for node in tree.body[1:]:
+                self.assertIsInstance(node, (ast.ImportFrom, ast.Assign, ast.FunctionDef, ast.ClassDef), name)
+
+    def test_statements(self):
+        """L4, L6: only known statements, no decorators."""
+        for name, node in nodes(ast.stmt):
+            self.assertIsInstance(node, STATEMENTS, (name, node.lineno))
+        for name, node in nodes((ast.FunctionDef, ast.ClassDef)):
+            self.assertEqual(node.decorator_list, [], (name, node.name))
+
+    def test_builtins_and_methods(self):
+        """L8, L25."""
+        for name, node in nodes(ast.Name):
+            if node.id in vars(builtins):
+                self.assertIn(node.id, BUILTINS, (name, node.lineno))
+                self.assertIsInstance(node.ctx, ast.Load, (name, node.lineno))
+        for name, node in nodes(ast.Call):
+            if isinstance(node.func, ast.Attribute):
+                self.assertIn(node.func.attr, METHODS, (name, node.lineno))
+
+    def test_names(self):
+        """L12, L15: plain names, none that of a builtin or of an import or class of the file."""
+        for name, node in nodes(ast.FunctionDef):
+            taken = [alias.name for owner, other in nodes(ast.ImportFrom) if owner == name for alias in other.names]
+            taken += [other.name for owner, other in nodes(ast.ClassDef) if owner == name]
+            own = [entry.arg for entry in node.args.args]
+            own += [entry.id for entry in ast.walk(node)
+                    if isinstance(entry, ast.Name) and isinstance(entry.ctx, ast.Store)]
+            for word in own:
+                self.assertNotIn(word, taken, (name, node.name))
+                self.assertNotIn(word, vars(builtins), (name, node.name))
+                self.assertTrue(word == "_" or re.fullmatch("_?[A-Za-z][A-Za-z0-9_]*", word), word)
+
+    def test_values(self):
+        """L7, L27: no floats, no division, no percent sign in a string; L17: barred words."""
+        for name, node in nodes(ast.Constant):
+            self.assertNotIsInstance(node.value, float, name)
+            if isinstance(node.value, str):
+                self.assertNotIn("%", node.value, name)
+        self.assertEqual(nodes((ast.Div, ast.Set, ast.SetComp, ast.Lambda)), [])
+        for name, source in FILES.items():
+            self.assertIsNone(BARRED.search(source), name)
+
+
+if __name__ == "__main__":
+    unittest.main()

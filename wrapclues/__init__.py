@@ -1,0 +1,1 @@
+"""Wrapclues: texts that are known only by how they were wrapped."""
