@@ -1,5 +1,6 @@
 """The examples of the document, and the names and parameters of its interface."""
 
+import builtins
 import doctest
 import importlib
 import inspect
@@ -19,6 +20,8 @@ FUNCTIONS = {
 class InterfaceTest(unittest.TestCase):
 
     def test_examples(self):
+        # doctest leaves the last value behind as a builtin, which other tests must not see.
+        self.addCleanup(vars(builtins).pop, "_", None)
         results = doctest.testfile("examples.txt")
         self.assertEqual(results.failed, 0)
         self.assertEqual(results.attempted, 28)

@@ -10,6 +10,8 @@ PACKAGE = pathlib.Path(__file__).resolve().parent.parent / "wrapclues"
 FILES = {path.stem: path.read_text(encoding="utf-8") for path in sorted(PACKAGE.rglob("*.py"))}
 TREES = {name: ast.parse(source) for name, source in FILES.items()}
 
+# An interactive session, and doctest, keep the last value as a builtin of this name.
+TAKEN = set(vars(builtins)) - {"_"}
 BUILTINS = set("""len range enumerate zip min max sum abs sorted reversed int str bool list tuple dict set isinstance
     ord repr any all divmod Exception ValueError TypeError KeyError IndexError LookupError super""".split())
 METHODS = set("""append clear copy count endswith extend find get index insert isalnum isalpha isdigit islower isspace
@@ -89,7 +91,7 @@ class LanguageTest(unittest.TestCase):
     def test_builtins_and_methods(self):
         """L8, L25."""
         for name, node in nodes(ast.Name):
-            if node.id in vars(builtins):
+            if node.id in TAKEN:
                 self.assertIn(node.id, BUILTINS, (name, node.lineno))
                 self.assertIsInstance(node.ctx, ast.Load, (name, node.lineno))
         for name, node in nodes(ast.Call):
@@ -106,7 +108,7 @@ class LanguageTest(unittest.TestCase):
                     if isinstance(entry, ast.Name) and isinstance(entry.ctx, ast.Store)]
             for word in own:
                 self.assertNotIn(word, taken, (name, node.name))
-                self.assertNotIn(word, vars(builtins), (name, node.name))
+                self.assertNotIn(word, TAKEN, (name, node.name))
                 self.assertTrue(word == "_" or re.fullmatch("_?[A-Za-z][A-Za-z0-9_]*", word), word)
 
     def test_values(self):

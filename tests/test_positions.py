@@ -135,8 +135,8 @@ class ReasonTest(PromiseCase):
                 values.append(reason[:at] + (number,) + reason[at + 1:])
         for value in values:
             self.assertIs(is_reason(SCREENS, 5, value), False, repr(value)[:100])
-        for value in ["first", ["first"], (b"first",), ("First",), ("first", 0), ("first", 0, 0), (("first",),), (None,),
-                      ("",), {"first"}, ("beside",), (wrong.EqualToAll(),), wrong.EqualToAll()]:
+        for value in ["first", ["first"], (b"first",), ("First",), ("first", 0), ("first", 0, 0), (("first",),),
+                      (None,), ("",), {"first"}, ("beside",), (wrong.EqualToAll(),), wrong.EqualToAll()]:
             self.assertIs(is_reason(SCREENS, 0, value), False, repr(value)[:100])
         self.assertIs(is_reason(SCREENS, 0, ("first",)), True)
 
