@@ -1,5 +1,7 @@
 """The definitions of the document, followed word by word and without any shortcut."""
 
+import re
+
 
 def all_texts(characters):
     """All texts with this number of characters."""
@@ -130,3 +132,68 @@ def pattern_by_texts(texts):
 def all_screens(characters, widths):
     """All single screens with this number of characters and one of the widths."""
     return [(width, lengths) for width in widths for lengths in all_texts(characters)]
+
+
+def fitted_lists(characters, widths, first_widths):
+    """All lists of one screen, or of two of which the first one has one of the first widths,
+    that some text fits, each with the texts that fit them."""
+    found = []
+    texts = all_texts(characters)
+    wraps = {(number, width): wrap_of(text, width) for number, text in enumerate(texts) for width in widths}
+    screens = all_screens(characters, widths)
+    pairs = [[first, second] for first in screens if first[0] in first_widths for second in screens]
+    for screens in [[screen] for screen in screens] + pairs:
+        fitting = [text for number, text in enumerate(texts)
+                   if all(wraps[number, width] == lengths for width, lengths in screens)]
+        if fitting:
+            found.append((screens, fitting))
+    return found
+
+
+def pattern_by_reasons(screens):
+    """The pattern of screens without a clash as point 8 says, for long ones."""
+    characters = characters_in(screens)
+    spaces, letters = set(), {0}
+    for _, _, width, start, end in numbered_lines(screens):
+        spaces.add(end)
+        letters |= {end - 1, end + 1} | set(room_of(width, start, end, characters))
+        if end - start > width:
+            letters |= set(range(start, end))
+    return "".join("_" if at in spaces else "x" if at in letters else "?" for at in range(characters))
+
+
+def fibonacci(number):
+    """F of 10 (c), with F(1) = F(2) = 1."""
+    before, value = 1, 0
+    for _ in range(number):
+        before, value = value, before + value
+    return value
+
+
+def product_over_groups(pattern):
+    """The number of fitting texts as 10 (c) says."""
+    product = 1
+    for group in re.findall(r"[?]+", pattern):
+        product *= fibonacci(len(group) + 2)
+    return product
+
+
+def wraps_of(texts, width):
+    """All different wraps of these texts, in ascending order."""
+    return sorted([list(wrap) for wrap in {tuple(wrap_of(text, width)) for text in texts}])
+
+
+def breaks_in(lengths):
+    """The ends of the lines, without the last one."""
+    return [end for _, end in screen_lines((1, lengths))[:-1]]
+
+
+def visible_in(text, low, high):
+    """The visible spaces as point 9 says."""
+    return sorted({end for width in range(low, high + 1) for end in breaks_in(wrap_of(text, width))})
+
+
+def text_with(characters, spaces):
+    """The text with this number of characters and these spaces."""
+    string = "".join(" " if position in spaces else "x" for position in range(characters))
+    return [len(word) for word in string.split(" ")]

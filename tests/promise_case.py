@@ -3,6 +3,15 @@
 import copy
 import unittest
 
+import oracle
+from wrapclues.errors import ScreensClash
+from wrapclues.texts import wrap_text
+
+
+def screens_at(text, widths):
+    """What the text shows at these widths."""
+    return [(width, wrap_text(text, width)) for width in widths]
+
 
 class PromiseCase(unittest.TestCase):
 
@@ -24,3 +33,18 @@ class PromiseCase(unittest.TestCase):
     def assert_same(self, value, expected):
         """Equal, and of the same kinds within: no True for 1, no tuple for a list."""
         self.assertEqual(repr(value), repr(expected))
+
+    def assert_clash(self, screens, function, *arguments):
+        """The call raises ScreensClash with a clash of the screens."""
+        error = self.assert_raises_only(ScreensClash, function, *arguments)
+        self.assertIsInstance(error.clash, tuple)
+        self.assertIn(error.clash, oracle.clashes_of(screens))
+
+    def assert_new(self, function, *arguments):
+        """The returned list is new at each call, and none of the lists that were passed."""
+        result = function(*arguments)
+        expected = list(result)
+        result.append(99)
+        result[0] = 98
+        self.assert_same(function(*arguments), expected)
+        self.assertFalse(any(result is argument for argument in arguments))

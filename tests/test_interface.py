@@ -14,7 +14,20 @@ FUNCTIONS = {
                 "find_clash": ["screens"], "is_clash": ["screens", "value"]},
     "positions": {"pattern_of": ["screens"], "reason_for": ["screens", "position"],
                   "is_reason": ["screens", "position", "value"]},
+    "fitting": {"fits": ["screens", "text"], "count_texts": ["screens"], "nth_text": ["screens", "number"],
+                "text_index": ["screens", "text"]},
+    "forecasts": {"fewest_lines": ["screens", "width"], "most_lines": ["screens", "width"],
+                  "possible_breaks": ["screens", "width"], "certain_breaks": ["screens", "width"],
+                  "count_wraps": ["screens", "width"], "nth_wrap": ["screens", "width", "number"],
+                  "wrap_index": ["screens", "width", "lengths"]},
+    "widths": {"width_range": ["lengths", "screens"]},
+    "cores": {"visible_spaces": ["text", "low", "high"], "core_of": ["text", "low", "high"],
+              "are_alike": ["text", "other", "low", "high"], "separating_width": ["text", "other", "low", "high"],
+              "count_alike": ["text", "low", "high"]},
 }
+
+# All other parameters have no default value.
+DEFAULTS = {("width_range", "screens"): None}
 
 
 class InterfaceTest(unittest.TestCase):
@@ -24,7 +37,7 @@ class InterfaceTest(unittest.TestCase):
         self.addCleanup(vars(builtins).pop, "_", None)
         results = doctest.testfile("examples.txt")
         self.assertEqual(results.failed, 0)
-        self.assertEqual(results.attempted, 28)
+        self.assertEqual(results.attempted, 56)
 
     def test_functions_stand_in_their_files_with_their_parameters(self):
         for module, functions in FUNCTIONS.items():
@@ -36,7 +49,8 @@ class InterfaceTest(unittest.TestCase):
                 self.assertEqual([parameter.name for parameter in found], parameters)
                 for parameter in found:
                     self.assertIs(parameter.kind, parameter.POSITIONAL_OR_KEYWORD)
-                    self.assertIs(parameter.default, parameter.empty)
+                    default = DEFAULTS.get((name, parameter.name), parameter.empty)
+                    self.assertIs(parameter.default, default, name)
 
 
 if __name__ == "__main__":

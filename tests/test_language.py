@@ -111,6 +111,80 @@ class LanguageTest(unittest.TestCase):
                 self.assertNotIn(word, TAKEN, (name, node.name))
                 self.assertTrue(word == "_" or re.fullmatch("_?[A-Za-z][A-Za-z0-9_]*", word), word)
 
+    def test_defaults(self):
+        """L4: the default values are plain, and no parameter has a star."""
+        for name, node in nodes(ast.FunctionDef):
+            self.assertTrue(all(isinstance(entry, ast.Constant) for entry in node.args.defaults), (name, node.name))
+            self.assertEqual([node.args.vararg, node.args.kwarg, node.args.kwonlyargs], [None, None, []])
+
+    def test_is(self):
+        """L20: beside None, True or False only."""
+        for name, node in nodes(ast.Compare):
+            for sign, right in zip(node.ops, node.comparators):
+                if isinstance(sign, (ast.Is, ast.IsNot)):
+                    self.assertIsInstance(right, ast.Constant, (name, node.lineno))
+                    self.assertIn(right.value, (None, True, False), (name, node.lineno))
+
+    def test_errors(self):
+        """L19: an error is created where it is raised, and none of Python's own is raised."""
+        for name, node in nodes(ast.Raise):
+            self.assertIsInstance(node.exc, ast.Call, (name, node.lineno))
+            self.assertIn(node.exc.func.id, self.defined_in("errors"), (name, node.lineno))
+
+    def test_keywords_of_builtins(self):
+        """L22."""
+        allowed = {"sorted": ["key", "reverse"], "min": ["key", "default"], "max": ["key", "default"],
+                   "sum": ["start"], "enumerate": ["start"], "zip": ["strict"]}
+        for name, node in nodes(ast.Call):
+            if isinstance(node.func, ast.Name) and node.func.id in TAKEN:
+                for keyword in node.keywords:
+                    self.assertIn(keyword.arg, allowed.get(node.func.id, []), (name, node.lineno))
+
+    def calls_in(self, tree, names):
+        """The calls of builtins with these names, each with the node around it."""
+        return [(node, child) for node in ast.walk(tree) for child in ast.iter_child_nodes(node)
+                if isinstance(child, ast.Call) and isinstance(child.func, ast.Name) and child.func.id in names]
+
+    def test_iterated_at_once(self):
+        """L23: all but a range is iterated where it stands; a range may be kept in a variable."""
+        takers = ["list", "tuple", "dict", "sorted", "sum", "any", "all", "enumerate", "zip", "min", "max"]
+        for name, tree in TREES.items():
+            for around, call in self.calls_in(tree, ["zip", "enumerate", "reversed", "range", "map"]):
+                at = (name, call.lineno)
+                if isinstance(around, ast.Call):
+                    allowed = takers + ["reversed", "len"] if call.func.id == "range" else takers
+                    self.assertIn(around.func.id, allowed, at)
+                elif isinstance(around, ast.Assign):
+                    self.assertEqual(call.func.id, "range", at)
+                else:
+                    self.assertIsInstance(around, (ast.For, ast.comprehension, ast.Compare), at)
+                    self.assertFalse(isinstance(around, ast.Compare) and call.func.id != "range", at)
+        self.assertEqual(nodes((ast.GeneratorExp, ast.Yield, ast.YieldFrom)), [])
+
+    def test_sets(self):
+        """L24: a set is sorted or measured at once, or kept in a variable and asked what is in it."""
+        for name, tree in TREES.items():
+            for around, call in self.calls_in(tree, ["set"]):
+                at = (name, call.lineno)
+                if isinstance(around, ast.Call):
+                    self.assertIn(around.func.id, ["sorted", "len"], at)
+                else:
+                    self.assertIsInstance(around, (ast.Assign, ast.Compare), at)
+        for name, node in nodes(ast.FunctionDef):
+            for around, _ in self.calls_in(node, ["set"]):
+                if isinstance(around, ast.Assign):
+                    self.check_kept_set(node, around.targets[0].id)
+
+    def check_kept_set(self, function, kept):
+        """The variable is assigned once, and each time that it is read it stands behind `in`."""
+        names = [node for node in ast.walk(function) if isinstance(node, ast.Name) and node.id == kept]
+        behind_in = [node.comparators[0] for node in ast.walk(function) if isinstance(node, ast.Compare)
+                     and isinstance(node.ops[0], (ast.In, ast.NotIn))]
+        self.assertEqual(len([node for node in names if isinstance(node.ctx, ast.Store)]), 1, kept)
+        for node in names:
+            if isinstance(node.ctx, ast.Load):
+                self.assertIn(node, behind_in, (function.name, kept))
+
     def test_values(self):
         """L7, L27: no floats, no division, no percent sign in a string; L17: barred words."""
         for name, node in nodes(ast.Constant):

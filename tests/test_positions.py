@@ -11,27 +11,10 @@ from wrapclues.positions import is_reason, pattern_of, reason_for
 from wrapclues.texts import wrap_text
 
 SCREENS = [(5, [5, 2]), (3, [3, 1, 2])]
-CLASHING = [[(9, [4, 3])], [(5, [5, 2]), (4, [4, 3])], [(4, [5, 2]), (3, [3, 4])], [(1000, [1, 6])]]
-
-
-def clash_free(characters, widths, both_widths):
-    """All lists of one or two screens that some text fits, with the texts that fit them."""
-    found = []
-    texts = oracle.all_texts(characters)
-    wraps = {(number, width): oracle.wrap_of(text, width) for number, text in enumerate(texts) for width in widths}
-    screens = oracle.all_screens(characters, widths)
-    pairs = [[first, second] for first in screens if first[0] in both_widths for second in screens]
-    for screens in [[screen] for screen in screens] + pairs:
-        fitting = [text for number, text in enumerate(texts)
-                   if all(wraps[number, width] == lengths for width, lengths in screens)]
-        if fitting:
-            found.append((screens, fitting))
-    return found
-
 
 FITTED = [case for characters in range(1, 8)
-          for case in clash_free(characters, range(1, characters + 3), range(1, characters + 3))]
-FITTED += clash_free(10, [2, 3, 4, 5], [3])
+          for case in oracle.fitted_lists(characters, range(1, characters + 3), range(1, characters + 3))]
+FITTED += oracle.fitted_lists(10, [2, 3, 4, 5], [3])
 
 
 class PatternTest(PromiseCase):
@@ -160,7 +143,7 @@ class ErrorsTest(PromiseCase):
                 self.assert_raises_only(InvalidScreens, is_reason, value, position, ("first",))
 
     def test_clashes_come_before_positions(self):
-        for screens in CLASHING:
+        for screens in wrong.CLASHING:
             errors = [self.assert_raises_only(ScreensClash, pattern_of, screens)]
             for position in (0, -1, 8, None, True):
                 errors.append(self.assert_raises_only(ScreensClash, reason_for, screens, position))

@@ -40,3 +40,11 @@ NO_SCREEN_LISTS = ([[screen] for screen in NO_SCREENS] + [[(5, [5, 2]), screen] 
                    + [None, True, False, 0, 1, "", "screens", b"", (), [], {}, set(), ((5, [5, 2]),), (5, [5, 2]),
                       [5, [5, 2]], [[]], [()], {(5, 1): 2}, int, len, object(), iter([(5, [5, 2])]), range(2),
                       [[(5, [5, 2])]], nested(40, 5), nested(38, (5, [5, 2]))])
+
+# Screens with 8 characters that no text fits.
+CLASHING = [[(9, [4, 3])], [(5, [5, 2]), (4, [4, 3])], [(4, [5, 2]), (3, [3, 4])], [(1000, [1, 6])]]
+
+# Tuples (low, high) that are no range of widths; in some of them both values are wrong.
+NO_RANGES = ([(value, 5) for value in NO_WIDTHS] + [(5, value) for value in NO_WIDTHS]
+             + [(value, value) for value in NO_WIDTHS]
+             + [(2, 1), (5, 4), (6, 5), (1000, 1), (1000, 999), (0, 0), (1001, 1001), (0, 1001), (True, True)])
