@@ -94,9 +94,49 @@ class LanguageTest(unittest.TestCase):
             if node.id in TAKEN:
                 self.assertIn(node.id, BUILTINS, (name, node.lineno))
                 self.assertIsInstance(node.ctx, ast.Load, (name, node.lineno))
+        allowed = METHODS | {method.name for _, node in nodes(ast.ClassDef) for method in self.methods_of(node)}
         for name, node in nodes(ast.Call):
             if isinstance(node.func, ast.Attribute):
-                self.assertIn(node.func.attr, METHODS, (name, node.lineno))
+                self.assertIn(node.func.attr, allowed, (name, node.lineno))
+
+    def methods_of(self, node):
+        return [entry for entry in node.body if isinstance(entry, ast.FunctionDef)]
+
+    def test_classes(self):
+        """L5, L18, L26: a docstring and methods, whose names are no other names."""
+        builtin = {word for kind in (str, int, list, dict, set, bytes) for word in dir(kind)}
+        attributes = {node.attr for _, node in nodes(ast.Attribute) if isinstance(node.ctx, ast.Store)}
+        for name, node in nodes(ast.ClassDef):
+            methods = [method.name for method in self.methods_of(node)]
+            self.assertIsInstance(node.body[0], ast.Expr, node.name)
+            self.assertEqual(len(node.body), len(methods) + 1, node.name)
+            self.assertEqual(len(methods), len(set(methods)), node.name)
+            for method in methods:
+                if method.startswith("__"):
+                    self.assertIn(method, ["__init__", "__len__", "__eq__"], node.name)
+                else:
+                    self.assertNotIn(method, builtin | attributes, node.name)
+
+    def test_double_underscore_methods(self):
+        """L28: no value from __init__, a measured one from __len__, and __eq__ asks for the class first."""
+        for name, node in nodes(ast.ClassDef):
+            for method in self.methods_of(node):
+                at = (name, node.name, method.name)
+                returns = [entry for entry in ast.walk(method) if isinstance(entry, ast.Return)]
+                if method.name == "__init__":
+                    self.assertEqual(returns, [], at)
+                elif method.name == "__len__":
+                    self.assertEqual([entry.value.func.id for entry in returns], ["len"], at)
+                elif method.name == "__eq__":
+                    first = "if not isinstance(other, " + node.name + "):\n    return False"
+                    self.assertEqual(ast.unparse(method.body[0]), first, at)
+
+    def test_attributes(self):
+        """L18: each attribute that is read is assigned by a class, or is a method."""
+        known = {node.attr for _, node in nodes(ast.Attribute) if isinstance(node.ctx, ast.Store)} | METHODS
+        known |= {method.name for _, node in nodes(ast.ClassDef) for method in self.methods_of(node)}
+        for name, node in nodes(ast.Attribute):
+            self.assertIn(node.attr, known, (name, node.lineno))
 
     def test_names(self):
         """L12, L15: plain names, none that of a builtin or of an import or class of the file."""

@@ -2,7 +2,7 @@
 
 from wrapclues.checks import is_tagged, is_whole_between
 from wrapclues.errors import InvalidScreens
-from wrapclues.texts import count_characters, is_text, is_width, spans_of, wrap_text
+from wrapclues.texts import MOST_WIDTH, count_characters, is_text, is_width, spans_of, wrap_text
 
 ROOM = "room"
 LONG = "long"
@@ -71,6 +71,12 @@ def characters_of(screens):
     """The number of characters of screens that have been checked."""
     _, lengths = screens[0]
     return count_characters(lengths)
+
+
+def screens_of_all(characters):
+    """Screens that all texts with this number of characters fit."""
+    # At the greatest width each of these texts is a single line.
+    return [(MOST_WIDTH, [characters])]
 
 
 def is_line(screens, at, line):

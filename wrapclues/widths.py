@@ -1,6 +1,6 @@
 """The widths at which a text can have a given wrap."""
 
-from wrapclues.clashes import are_screens, characters_of, is_screen
+from wrapclues.clashes import are_screens, characters_of, is_screen, screens_of_all
 from wrapclues.errors import InvalidLengths, InvalidScreens
 from wrapclues.positions import pattern_of
 from wrapclues.texts import MOST_WIDTH, count_characters, spans_of
@@ -26,8 +26,7 @@ def width_range(lengths, screens=None):
 def pattern_for(characters, screens):
     """The pattern of the screens, or of all texts if there are none."""
     if screens is None:
-        # All texts are a single line at the greatest width.
-        return pattern_of([(MOST_WIDTH, [characters])])
+        return pattern_of(screens_of_all(characters))
     if not are_screens(screens) or characters_of(screens) != characters:
         raise InvalidScreens("screens with the number of characters of the lengths are required")
     return pattern_of(screens)
